@@ -1,0 +1,1 @@
+"""Lookuploops: nested loops and look-up tables, compared on all tables."""
