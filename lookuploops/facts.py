@@ -37,6 +37,14 @@ class Facts:
                 return line
         return None
 
+    def are_over(self, schema):
+        """Tell whether these are facts over the tables of a schema."""
+        return self._schema.fits(schema)
+
+    def as_read(self):
+        """Return the list of the facts, as they were read from the lines."""
+        return list(self._facts.values())
+
     def implies(self, line):
         """Tell whether all tables that keep these facts keep the fact of a line, too."""
         fact = read_fact(self._schema, line)
