@@ -1,8 +1,8 @@
 """Choices: the worlds that come of what a run asks next."""
 
+from lookuploops.endings import can_end
 from lookuploops.net import FAILS, OPEN
 from lookuploops.searches import rows_read
-from lookuploops.worlds import ahead
 
 
 def decide(searches, world, conditions):
@@ -53,40 +53,24 @@ def both_ways(world, conditions):
 def with_row(searches, world, reference):
     """Return the worlds in which it is known which row a search comes to, or first a row that it reads."""
     question = searches.asked[reference]
-    way, _, where, until = question
+    _, table, where, until = question
     unknown = unknown_rows(where if until is None else where + until, world)
     if unknown:
         return with_row(searches, world, unknown[0])
     children = []
-    for child, row, stop in outcomes(world, question):
+    for child, row in [(world.twin(), 0)] + picked(world, table, where):
         child.places[reference] = row
-        if way == "first":
-            pass_by_to_first(child, question, row, stop)
-        else:
-            pass_by_to_last(child, question, row, stop)
-        if child.settle():
+        pass_by(child, question, row)
+        left_open = until is not None and (row == 0 or question[0] == "last")
+        if left_open:
+            child.unended = child.unended + [reference]
+        if child.settle() and (not left_open or can_end(child, question, row)):
             children.append(child)
     return children
 
 
-def outcomes(world, question):
-    """Return tuples of a world, the row that a search comes to in it, and the row that ends it without; or 0."""
-    way, table, where, until = question
-    ended = [(world.twin(), 0)]
-    if until is not None:
-        ended.extend(picked(world, table, until))
-    told = [(child, 0, stop) for child, stop in ended]
-    if way == "first":
-        return told + [(child, row, 0) for child, row in picked(world, table, where)]
-    for child, stop in ended:
-        for grandchild, row in picked(child, table, where):
-            if row != stop:
-                told.append((grandchild, row, stop))
-    return told
-
-
 def picked(world, table, conditions):
-    """Return the worlds with a row that fulfils conditions, and this row: each known one, and a further one."""
+    """Return tuples of a world and a row that is to fulfil conditions in it: each known row, and a further one."""
     told = []
     for row in world.rows[table]:
         if all(world.verdict(condition, row) != FAILS for condition in conditions):
@@ -98,25 +82,17 @@ def picked(world, table, conditions):
     if row:
         child.demand(conditions, row)
         told.append((child, row))
-    return [(child, row) for child, row in told if child.net.settle()]
+    return told
 
 
-def pass_by_to_first(world, question, row, stop):
-    """Forbid that a search for the first row ends at another row than it does."""
-    _, table, where, until = question
-    end = row if row else stop
-    world.ban(table, where, 0, end)
-    if until is not None:
-        world.ban(table, until, 0, end)
-        if row:
-            world.refuse(until, row)
-
-
-def pass_by_to_last(world, question, row, stop):
-    """Forbid that a search for the last row comes to another row, or ends at another one, than it does."""
-    _, table, where, until = question
-    world.ban(table, where, row, stop)
-    if until is not None:
-        world.ban(table, until, 0, stop)
-    if row and stop:
-        world.net.clauses.append([ahead(row, stop)])
+def pass_by(world, question, row):
+    """Forbid what would lead a search to another row than this one, or 0, but for what its `until` decides."""
+    way, table, where, until = question
+    if until is None:
+        low, high = (0, row) if way == "first" else (row, 0)
+        world.ban(table, where, low, high)
+    elif row:
+        world.ban(table, until, 0, row)
+        world.refuse(until, row)
+        if way == "first":
+            world.ban(table, where, 0, row)

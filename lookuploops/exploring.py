@@ -1,5 +1,6 @@
 """Exploring walks until one of them is shown by tables, those with fewer rows first."""
 
+from lookuploops.endings import endings, misled
 from lookuploops.searches import Searches
 from lookuploops.walks import REACHED, Walk, parted, walked
 from lookuploops.worlds import World
@@ -22,7 +23,7 @@ def fewest(rules, tasks):
         if not waiting[many]:
             del waiting[many]
         if walk.aim == REACHED:
-            tables, walks = closed(walk)
+            tables, walks = closed(searches, walk)
             if tables is not None:
                 return tables
         elif walk.aim is None:
@@ -62,13 +63,19 @@ def with_path_row(world, table, depth):
     return children
 
 
-def closed(walk):
-    """Return the tables that show what a walk came to, if its rows do, or None and walks with more of them."""
+def closed(searches, walk):
+    """Return the tables that show what a walk came to, if its rows do, or None and walks of which more is known."""
     world = walk.world
     values = world.net.solved()
     if values is None:
         return None, []
     debt = world.unpaid(values)
-    if debt is None:
+    if debt is not None:
+        return None, [walk.moved(child) for child in world.payments(debt)]
+    reference = misled(searches, world, values)
+    if reference is None:
         return world.shown(values), []
-    return None, [walk.moved(child) for child in world.payments(debt)]
+    children = endings(world, searches.asked[reference], world.places[reference])
+    for child in children:
+        child.unended = [other for other in child.unended if other != reference]
+    return None, [walk.moved(child) for child in children]

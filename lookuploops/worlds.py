@@ -19,7 +19,8 @@ class World:
     the dict from references to their rows, or 0 for none. `bans` is the dict from the tables to tuples
     (conditions, low, high): no row behind the row `low`, if there is one, and ahead of the row `high`, if there
     is one, fulfils the conditions. `owed` are tuples (node, table, at): the value is to be found in a column;
-    with None as the node a row is to be found. `decided` is the dict from tuples of conditions to whether all
+    with None as the node a row is to be found. `unended` are the references of searches that may come to other rows
+    as yet, since it is not known where they end. `decided` is the dict from tuples of conditions to whether all
     of them hold.
     """
 
@@ -31,6 +32,7 @@ class World:
         self.places = {NO_ROW: 0}
         self.decided = {}
         self.owed = [(None, table, 0) for table in rules.filled]
+        self.unended = []
         self.many = 0
 
     def twin(self):
@@ -42,6 +44,7 @@ class World:
         other.places = dict(self.places)
         other.decided = dict(self.decided)
         other.owed = self.owed
+        other.unended = self.unended
         other.many = self.many
         return other
 
