@@ -1,43 +1,62 @@
-"""Exploring walks until one of them is shown by tables, those with fewer rows first."""
+"""Exploring walks until one of them is shown by tables."""
 
 from lookuploops.endings import endings, misled
+from lookuploops.further import least_further, with_further
 from lookuploops.searches import Searches
 from lookuploops.walks import REACHED, Walk, parted, walked
 from lookuploops.worlds import World
 
 
-def fewest(rules, tasks):
-    """Return tables with the fewest rows that show one of some tasks, or None if no tables do.
+def some_tables(rules, tasks):
+    """Return tables that show one of some tasks, or None if no tables do.
 
     A task is the shape of a path and the list of the plans that are to be run along it: two, which are to come to
     different ends, or one, which is to be won.
     """
+    return explored(rules, tasks, False)
+
+
+def fewest_tables(rules, tasks):
+    """Return tables with the fewest rows in all that show one of some tasks, or None if no tables do."""
+    return explored(rules, tasks, True)
+
+
+def explored(rules, tasks, fewest):
+    """Go on with walks, those with the fewest rows first if they are asked for, until tables are found."""
     searches = Searches()
     waiting = {}
     for shape, plans in tasks:
         for world in worlds_of(rules, shape):
-            wait(waiting, Walk(world, plans))
+            wait(waiting, Walk(world, plans), fewest)
     while waiting:
         many = min(waiting)
         walk = waiting[many].pop()
         if not waiting[many]:
             del waiting[many]
-        if walk.aim == REACHED:
-            tables, walks = closed(searches, walk)
-            if tables is not None:
-                return tables
-        elif walk.aim is None:
+        tables = None
+        if walk.aim is None:
             walks = walked(searches, walk)
-        else:
+        elif walk.aim != REACHED:
             walks = parted(searches, walk)
+        elif fewest:
+            tables, walks = closed_with_fewest(searches, walk)
+        else:
+            tables, walks = closed(searches, walk)
+        if tables is not None:
+            return tables
         for child in walks:
-            wait(waiting, child)
+            wait(waiting, child, fewest)
     return None
 
 
-def wait(waiting, walk):
-    """Put a walk to the others that know as many rows."""
-    waiting.setdefault(walk.world.many, []).append(walk)
+def wait(waiting, walk, fewest):
+    """Put a walk to the others that have as many rows, or to all if that does not matter."""
+    many = 0
+    if fewest:
+        many = walk.world.many
+        if walk.further is not None:
+            many = many + sum(walk.further.numbers)
+    waiting.setdefault(many, []).append(walk)
 
 
 def worlds_of(rules, shape):
@@ -64,7 +83,7 @@ def with_path_row(world, table, depth):
 
 
 def closed(searches, walk):
-    """Return the tables that show what a walk came to, if its rows do, or None and walks of which more is known."""
+    """Return the tables that show what a walk came to, or None and walks of which more is known."""
     world = walk.world
     values = world.net.solved()
     if values is None:
@@ -72,10 +91,48 @@ def closed(searches, walk):
     debt = world.unpaid(values)
     if debt is not None:
         return None, [walk.moved(child) for child in world.payments(debt)]
+    return ended(searches, walk, world, values)
+
+
+def closed_with_fewest(searches, walk):
+    """Return the same, but for the numbers of further rows that the walk has, the least ones first."""
+    if walk.further is None:
+        if not is_closable(walk.world):
+            return None, []
+        walk.further = least_further(walk.world)
+        return None, [walk]
+    world = with_further(walk.world, walk.further)
+    values = None if world is None else world.net.solved()
+    if values is not None:
+        return ended(searches, walk, world, values)
+    walks = []
+    for further in walk.further.raised(walk.world):
+        child = walk.moved(walk.world)
+        child.further = further
+        walks.append(child)
+    return None, walks
+
+
+def is_closable(world):
+    """Tell whether further rows can pay all that is owed in a world."""
+    worlds = [world]
+    while worlds:
+        child = worlds.pop()
+        values = child.net.solved()
+        if values is not None:
+            debt = child.unpaid(values)
+            if debt is None:
+                return True
+            worlds.extend(child.payments(debt))
+    return False
+
+
+def ended(searches, walk, world, values):
+    """Return the tables of the known rows, if runs come to the right ones, or None and walks that do."""
     reference = misled(searches, world, values)
     if reference is None:
         return world.shown(values), []
-    children = endings(world, searches.asked[reference], world.places[reference])
+    children = endings(walk.world, searches.asked[reference], walk.world.places[reference])
     for child in children:
         child.unended = [other for other in child.unended if other != reference]
     return None, [walk.moved(child) for child in children]

@@ -98,22 +98,24 @@ class Net:
 
     def model(self):
         """Return integers for all nodes that keep the bounds, differing ones where there is room."""
-        values = {0: 0}
-        used = {0: True}
+        behind = {node: [] for node in self.bounds}
         for node, row in self.bounds.items():
-            if node == 0:
-                continue
-            low = None
-            high = None
-            for other, value in values.items():
-                most = row.get(other)
-                if most is not None and (high is None or value + most < high):
-                    high = value + most
-                most = self.bounds[other].get(node)
-                if most is not None and (low is None or value - most > low):
-                    low = value - most
-            values[node] = chosen(low, high, used)
-            used[values[node]] = True
+            for other, most in row.items():
+                behind[other].append((node, most))
+        values = {}
+        lows = {0: 0}
+        highs = {0: 0}
+        used = {}
+        for node, row in self.bounds.items():
+            value = chosen(lows.get(node), highs.get(node), used)
+            values[node] = value
+            used[value] = True
+            for other, most in row.items():
+                if other not in lows or lows[other] < value - most:
+                    lows[other] = value - most
+            for other, most in behind[node]:
+                if other not in highs or highs[other] > value + most:
+                    highs[other] = value + most
         return values
 
     def solved(self):

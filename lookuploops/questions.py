@@ -1,7 +1,7 @@
 """Questions about all tables that keep facts, decided for tables of any size."""
 
 from lookuploops.errors import NoLine, OtherTables
-from lookuploops.exploring import fewest
+from lookuploops.exploring import fewest_tables, some_tables
 from lookuploops.facts import Facts
 from lookuploops.keeping import keeps
 from lookuploops.plans import chain_to, line_plan, loops_along, path_plan, shapes_of, statement_at
@@ -13,14 +13,18 @@ DECIDING = ("if", "find", "last", "get", "need", "each")
 
 def alike(program, other, *, under=None):
     """Tell whether two programs have the same result for all tables that keep the facts."""
-    return parting(program, other, under=under) is None
+    check_both(program, other, under)
+    return some_tables(rules_of(program, under), partings(program, other)) is None
 
 
 def parting(program, other, *, under=None):
     """Return tables with the fewest rows for which the results differ, or None."""
-    if not program.schema.fits(other.schema):
-        raise OtherTables()
-    check_over(program, under)
+    check_both(program, other, under)
+    return fewest_tables(rules_of(program, under), partings(program, other))
+
+
+def partings(program, other):
+    """Return the tasks of which tables show one if the results differ for them."""
     one = program.source()
     two = other.source()
     shapes = shapes_of(one.statements)
@@ -29,14 +33,14 @@ def parting(program, other, *, under=None):
         plans = [path_plan(one, shape), path_plan(two, shape)]
         if plans[0] != plans[1]:
             tasks.append((shape, plans))
-    return fewest(rules_of(program, under), tasks)
+    return tasks
 
 
 def failures(program, *, under=None):
     """Return the list of the lines `need` that can fail."""
     check_over(program, under)
     needs = [number for number, statement in statements_of(program) if statement.word == "need"]
-    return [number for number in needs if reaching(program, under, number, False) is not None]
+    return [number for number in needs if is_reached(program, under, number, False)]
 
 
 def failing(program, line, *, under=None):
@@ -45,7 +49,7 @@ def failing(program, line, *, under=None):
     needs = [number for number, statement in statements_of(program) if statement.word == "need"]
     if line not in needs:
         raise NoLine(line)
-    return reaching(program, under, line, False)
+    return fewest_tables(rules_of(program, under), reaching(program, line, False))
 
 
 def settled(program, *, under=None):
@@ -62,13 +66,13 @@ def settled(program, *, under=None):
 def outcome(program, under, number, statement):
     """Return the word for what a statement comes to, or None if it is not settled."""
     if statement.word not in DECIDING:
-        return "unreached" if reaching(program, under, number, None) is None else None
-    holds = reaching(program, under, number, True) is not None
+        return None if is_reached(program, under, number, None) else "unreached"
+    holds = is_reached(program, under, number, True)
     if statement.word == "each":
         if holds:
             return None
-        return "unreached" if reaching(program, under, number, None) is None else "never"
-    fails = reaching(program, under, number, False) is not None
+        return "never" if is_reached(program, under, number, None) else "unreached"
+    fails = is_reached(program, under, number, False)
     if holds and fails:
         return None
     if holds:
@@ -78,9 +82,8 @@ def outcome(program, under, number, statement):
 
 def least_facts(program, other, given):
     """Return the smallest sets of given facts under which two programs are alike, as lists of lines."""
-    if not program.schema.fits(other.schema):
-        raise OtherTables()
-    check_over(program, given)
+    check_both(program, other, given)
+    tasks = partings(program, other)
     lines = given.lines
     shown = []
     least = []
@@ -90,7 +93,7 @@ def least_facts(program, other, given):
         under = Facts(program.schema, [lines[at] for at in chosen])
         if any(keeps_all(program.schema, tables, under) for tables in shown):
             continue
-        tables = parting(program, other, under=under)
+        tables = some_tables(rules_of(program, under), tasks)
         if tables is None:
             least.append(chosen)
         else:
@@ -119,6 +122,13 @@ def keeps_all(schema, tables, under):
     return all(keeps(schema, tables, fact) for fact in under.as_read())
 
 
+def check_both(program, other, under):
+    """Raise OtherTables if another program, or facts, are over other tables than a program."""
+    if not program.schema.fits(other.schema):
+        raise OtherTables()
+    check_over(program, under)
+
+
 def check_over(program, under):
     """Raise OtherTables if facts are over other tables than a program."""
     if under is not None and not under.are_over(program.schema):
@@ -141,12 +151,17 @@ def statements_of(program):
     return told
 
 
-def reaching(program, under, number, holds):
-    """Return tables with the fewest rows for which a statement is done with this outcome, or None."""
+def is_reached(program, under, number, holds):
+    """Tell whether for some tables a statement is done with this outcome."""
+    return some_tables(rules_of(program, under), reaching(program, number, holds)) is not None
+
+
+def reaching(program, number, holds):
+    """Return the tasks of which tables show one if a statement is done with this outcome for them."""
     source = program.source()
     chain = chain_to(source.statements, number)
     shape = loops_along(source.statements, chain)
     statement = statement_at(source.statements, chain)
     if statement.word == "each" and holds:
         shape = shape + (statement.table,)
-    return fewest(rules_of(program, under), [(shape, [line_plan(source, chain, holds)])])
+    return [(shape, [line_plan(source, chain, holds)])]

@@ -12,7 +12,8 @@ class Walk:
     `names` is the dict from the names of rows to references. `todo` is None or a pair of what comes first and the
     rest, which is again such a pair: steps, and dicts of names where a turn ends. `later` is the list of the plans
     that are run behind this one. `told` is the list of what was put in this run, `runs` that of all runs before.
-    `aim` is None in a run, then a pair of terms that are to differ, and REACHED if only the tables are lacking.
+    `aim` is None in a run, then a pair of terms that are to differ, and REACHED if only the tables are lacking; then
+    `further` may be the Further rows that are tried.
     """
 
     def __init__(self, world, plans):
@@ -23,6 +24,7 @@ class Walk:
         self.told = []
         self.runs = []
         self.aim = None
+        self.further = None
 
     def moved(self, world):
         """Return a walk that stands where this one stands, in another world."""

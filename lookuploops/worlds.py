@@ -58,18 +58,24 @@ class World:
         for node in range(row * NODES, row * NODES + NODES):
             self.net.bounds[node] = {}
         self.rows[table] = others + [row]
-        for at in self.rules.unique[table]:
-            for other in others:
-                self.net.clauses.append(apart(row * NODES + at, other * NODES + at))
-        for at in self.rules.rising[table]:
-            for other in others:
-                self.net.clauses.append(in_order(row, other, at))
-                self.net.clauses.append(in_order(other, row, at))
+        for other in others:
+            self.keep_rules(table, row, other)
         for at, goal, found in self.rules.debts[table]:
             self.owed = self.owed + [(row * NODES + at, goal, found)]
         for conditions, low, high in self.bans[table]:
             self.refuse(conditions, row, low, high)
         return row
+
+    def keep_rules(self, table, row, other):
+        """Have two rows of a table keep the rules."""
+        clauses = self.net.clauses
+        for at in self.rules.unique[table]:
+            clauses.append(apart(row * NODES + at, other * NODES + at))
+        for at in self.rules.rising[table]:
+            clauses.append(in_order(row, other, at))
+            clauses.append(in_order(other, row, at))
+        for at in self.rules.constant[table]:
+            clauses.append([equal(row * NODES + at, other * NODES + at)])
 
     def ban(self, table, conditions, low, high):
         """Forbid conditions for the rows between two rows; 0 stands for no such row."""
@@ -189,11 +195,12 @@ class World:
     def payments(self, debt):
         """Return the worlds in which a row, a known or a further one, is what is owed."""
         node, table, at = debt
-        children = [self.paid_anew(debt)]
+        children = []
         for row in self.rows[table]:
             child = self.twin()
             child.net.clauses.append([equal(node, row * NODES + at)])
             children.append(child)
+        children.append(self.paid_anew(debt))
         return [child for child in children if child is not None and child.settle()]
 
     def unpaid(self, values):
