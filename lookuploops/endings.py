@@ -6,7 +6,7 @@ chosen in the end, where the rows that are known then would lead the search to a
 """
 
 from lookuploops.net import FAILS, is_kept
-from lookuploops.worlds import PLACE, NODES, ahead
+from lookuploops.worlds import NODES, PLACE
 
 
 def can_end(world, question, row):
@@ -36,8 +36,6 @@ def stops(world, question):
 def ended(world, question, row, stop):
     """Return the world in which a search that comes to a row, or 0, ends at another row, or None."""
     _, table, where, until = question
-    if stop is not None and stop == row != 0:
-        return None
     child = world.twin()
     if stop is None:
         stop = child.add_row(table)
@@ -45,9 +43,7 @@ def ended(world, question, row, stop):
             return None
     if stop:
         child.demand(until, stop)
-        if row:
-            child.net.clauses.append([ahead(row, stop)])
-    child.ban(table, until, 0, stop)
+    # Rows ahead of this one may fulfil the `until`, too: the search comes to the same row then.
     child.ban(table, where, row, stop)
     return child if child.settle() else None
 

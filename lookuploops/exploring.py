@@ -133,6 +133,4 @@ def ended(searches, walk, world, values):
     if reference is None:
         return world.shown(values), []
     children = endings(walk.world, searches.asked[reference], walk.world.places[reference])
-    for child in children:
-        child.unended = [other for other in child.unended if other != reference]
     return None, [walk.moved(child) for child in children]

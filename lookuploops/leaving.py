@@ -4,7 +4,6 @@ from lookuploops.parts import Parts, joined
 from lookuploops.words import split_at, words_of
 
 LEAVABLE = ("index", "find", "last", "get", "need", "put", "next")
-CONDITIONAL = ("index", "each", "find", "last")
 
 
 def many_conditions(line):
@@ -12,8 +11,6 @@ def many_conditions(line):
     words = words_of(line)
     if words[0] == "if":
         return len(split_at(words, "and"))
-    if words[0] not in CONDITIONAL:
-        return 0
     parts = Parts(line)
     return len(parts.where or []) + len(parts.until or [])
 

@@ -227,8 +227,9 @@ class WaysTest(unittest.TestCase):
             with self.assertRaises(OtherTables):
                 ways(own, line, under=under)
         for ask in (idle_conditions, idle_lines, thinned):
-            with self.assertRaises(OtherTables):
-                ask(own, under=under)
+            for text in [own.text, HEAD + "next", HEAD.rstrip("\n")]:
+                with self.assertRaises(OtherTables):
+                    ask(Program(text), under=under)
 
 
 class IdleConditionsTest(unittest.TestCase):

@@ -118,6 +118,12 @@ class EdgesTest(PairCase):
         told = head + "if some y and some z\nif not y.v < z.v and not z.v < y.v\nput w\nend\nend"
         self.pair(head + "if y.v = z.v\nput w\nend", told, None)
         self.pair(head + "put w y.v", head + "put w z.v", 1)
+        never = "find u in b where 1 = 2\n"
+        self.pair(never + "put w u.v", never + "put w 3", 0)
+        self.pair(never + "put w u.v", head + "put w y.v", 1)
+        self.pair(never + "put w u.v 5", head + "if not some y\nput w y.k 5\nelse\nput w u.v 5\nend".replace("u.v", "y.v"), 1)
+        self.pair(never + "each x in b\nput w u.v\nend", never + "each x in b\nput w x.v\nend", 1)
+        self.pair(never + "put w u.v", "each x in b\nend\n" + never + "put w u.k", None)
 
     def test_puts(self):
         self.pair("put w", "put u", 0)
@@ -253,6 +259,59 @@ class ReferencesTest(PairCase):
         self.pair("put w", "put u", 2, "filled a", "filled c", values=(0, 1))
         self.pair("find y in b\nput w y.k", "put w 3", 0, *self.found, values=(0, 1))
 
+    def test_rows_that_owe_can_share_the_row_that_is_found(self):
+        both = "each x in a\neach y in a where not x is y{}\nput w\nend\nend"
+        self.pair(both.format(""), "each x in a\nend", 3, self.found[0], values=(0, 1))
+        self.pair(both.format(" and x.k = y.k"), "each x in a\nend", 5, *self.found, values=(0, 1))
+        self.pair(both.format(" and x.k < y.k"), "each x in a\nend", 4, self.found[0], values=(0, 1))
+        self.pair(both.format(""), "each x in a\nend", 4, self.found[0], "unique a.k", values=(0, 1))
+        self.pair(both.format(""), "each x in a\nend", 5, *self.found[:2], "unique a.k", values=(0, 1))
+        self.pair(both.format(""), "each x in a\nend", 6, *self.found[:2], "unique a.k", "unique b.up", values=(0, 1))
+        self.pair(both.format(""), "each x in a\nend", 8, *self.found, "unique a.k", "unique b.up", "unique c.up",
+                  values=(0, 1))
+
+    def test_values_that_only_differ(self):
+        one = "each x in a\neach y in a\nput w x.k\nend\nend"
+        other = "each x in a\neach y in a\nput w y.k\nend\nend"
+        self.pair(one, other, 2, values=(0, 1))
+        self.pair(one, other, 4, self.found[0], values=(0, 1))
+        self.pair(one, other, 5, *self.found[:2], values=(0, 1))
+        self.pair(one, other, 6, *self.found, "unique b.k", values=(0, 1))
+        self.pair(one, other, 6, *self.found[:2], "unique b.up", values=(0, 1))
+        self.pair(one, other, 6, "found a.k in b.k", "found b.k in c.up", values=(0, 1))
+
+    def test_two_tables_that_owe_the_same_one(self):
+        both = "each x in a\neach y in b\nput w\nend\nend"
+        lines = ("found a.k in d.k", "found b.k in d.k", "unique a.k", "unique b.k")
+        self.pair(both, "each x in a\nend", 3, *lines, values=(0, 1))
+        self.pair(both.replace("in b", "in b where x.k < y.k"), "each x in a\nend", 4, *lines, values=(0, 1))
+        lines = ("found b.k in d.k", "found b.up in d.k", "unique b.k", "unique b.up")
+        self.pair("each x in b\nput w\nend", "each x in b\nend", 2, *lines, values=(0, 1))
+        text = "each x in b\neach y in b where not x is y\nput w\nend\nend"
+        self.pair(text, "each x in b\nend", 4, *lines, values=(0, 1))
+
+    def test_filled_tables_that_need_the_same_row(self):
+        text = "find y in b where not y.k = 1\nfind z in c where not z.k = 2\nif not some y and not some z\nput w\nend"
+        lines = ("found b.k in d.k", "found c.k in d.k", "single d", "filled b")
+        self.pair(text, "find y in b", 2, *lines, values=(1, 2))
+        self.pair(text, "find y in b", None, *lines, "filled c", values=(1, 2))
+        self.pair(text, "find y in b", 4, *lines[:2], "filled b", "filled c", values=(1, 2))
+
+    def test_columns_with_one_value(self):
+        one = "each x in b\neach y in b\nput w x.{}\nend\nend"
+        other = "each x in b\neach y in b\nput w y.{}\nend\nend"
+        lines = ("found b.up in d.k", "single d")
+        self.pair(one.format("up"), other.format("up"), None, *lines, values=(0, 1))
+        self.pair(one.format("k"), other.format("k"), 3, *lines, values=(0, 1))
+        self.pair(one.format("k"), other.format("k"), None, *lines, "unique b.up", values=(0, 1))
+
+    def test_the_fewest_rows_of_several_ways_to_differ(self):
+        text = "each x in a\neach y in a where not x is y\nput w\nend\nend\nfind z in b\nif some z\nput u\nend"
+        self.pair(text, "each x in a\nend", 1, values=(0, 1))
+        self.pair(text, "each x in a\nend", 2, *self.found[1:], values=(0, 1))
+        self.pair(text, "each x in a\nend", 2, "found a.k in d.k", "found b.k in d.k", values=(0, 1))
+        self.pair(text, "each x in a\nend", 3, "found a.k in d.k", "found b.k in d.k", "found b.up in c.k", values=(0, 1))
+
     def test_a_found_row_among_rows_that_a_search_passed(self):
         text = "each x in a\nfind y in b where y.k = x.k and y.up = x.k\nif some y\nput w\nend\nend"
         self.pair(text, "each x in a\nput w\nend", 2, "found a.k in b.k", values=(0, 1))
@@ -312,6 +371,14 @@ class LoopsTest(PairCase):
         other = "each x in a\neach y in a where y.k = x.n and 0 < y.n\nput w y.n\nend\nend"
         self.pair(one, other, None)
         self.pair(one, other.replace("0 < y.n", "0 < x.n"), 2)
+
+    def test_names_are_forgotten_between_loops_over_one_table(self):
+        self.head = "table a k n\ntable b k v\n"
+        text = "find y in b where y.k = 1\neach x in a\nlast y in b where y.k = 1\nput u\nend\neach z in a\nput w y.v\nend"
+        self.pair(text, text.replace("put w y.v", "find y in b where y.k = 1\nput w y.v"), None)
+        self.pair(text, text.replace("put w y.v", "last y in b where y.k = 1\nput w y.v"), 3)
+        inner = "each x in a\neach y in b\nfind z in b\nnext\nend\neach u in b\nput w z.v\nend\nend"
+        self.pair(inner, "each x in a\nfind z in b where 1 = 2\neach u in b\nput w z.v\nend\nend", None)
 
     def test_names_are_forgotten(self):
         one = "find y in a where y.k = 1\neach x in a\nif x.n = 5\nlast y in a where y.k = 1\nend\nend\nput w y.n"

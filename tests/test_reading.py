@@ -73,7 +73,10 @@ class TablesTest(ReadingCase):
         self.right("table a k n v\ntable b k\ntable c a b c\ntable d d")
 
     def test_four_tables(self):
-        self.wrong("table a k\ntable b k\ntable c k\ntable d k\ntable e k", 5)
+        five = "table a k\ntable b k\ntable c k\ntable d k\ntable e k"
+        self.wrong(five, 5)
+        self.wrong(five + "\nrubbish", 5)
+        self.wrong(five + "\nindex d of q in a by k keep all\nput w", 5)
 
     def test_wrong_tables(self):
         for line in [
@@ -207,6 +210,8 @@ class StatementsTest(ReadingCase):
             "if not not 1 = 1", "if 1 = not 1", "if 1 > 0", "if 1 <= 2", "if 1 = 1 = 1", "if 1 is 1", "if some 1",
             "if " + " and ".join(["1 = 1"] * 5), "find x in a where " + " and ".join(["1 = 1"] * 5),
             "find x in a until " + " and ".join(["1 = 1"] * 5), "if some", "if some not", "if 1=1",
+            "find x from da in 1", "last x from da by 1", "each x from da of 1", "get x from df by 1", "need x of df at 1",
+            "if da df", "if any da", "if put w", "find x in a where any x", "find x in a where not x", "find x in a where x",
         ]:
             self.wrong(HEAD + INDEXES + line, 6)
             self.wrong(HEAD + INDEXES + "put w\nput w\n" + line + "\nput w\nrubbish", 8)
