@@ -154,6 +154,13 @@ class SettledTest(PairCase):
         text = "find x in b\nlast y in b\nif y.k < x.k\nput w\nend"
         self.settled(text, [])
         self.settled(text, [(5, "never"), (6, "unreached")], "sorted b.k")
+        text = "find x in b\nlast y in b\nif some x and not x.k = y.k and not x.k < y.k\nput w\nend"
+        self.settled(text, [])
+        self.settled(text, [(5, "never"), (6, "unreached")], "sorted b.k")
+        text = "each x in b\neach y in b where {}\nput w\nend\nend"
+        for condition in ["x before y and y.v < x.v", "y before x and x.v < y.v"]:
+            self.settled(text.format(condition), [])
+            self.settled(text.format(condition), [(4, "never"), (5, "unreached")], "sorted b.v")
 
     def test_references_through_tables(self):
         self.head = "table a k\ntable b k up\ntable c k\n"
