@@ -84,20 +84,17 @@ def with_path_row(world, table, depth):
 
 def closed(searches, walk):
     """Return the tables that show what a walk came to, or None and walks of which more is known."""
-    world = walk.world
-    values = world.net.solved()
-    if values is None:
+    world, values = paid(walk.world)
+    if world is None:
         return None, []
-    debt = world.unpaid(values)
-    if debt is not None:
-        return None, [walk.moved(child) for child in world.payments(debt)]
     return ended(searches, walk, world, values)
 
 
 def closed_with_fewest(searches, walk):
     """Return the same, but for the numbers of further rows that the walk has, the least ones first."""
     if walk.further is None:
-        if not is_closable(walk.world):
+        world, _ = paid(walk.world)
+        if world is None:
             return None, []
         walk.further = least_further(walk.world)
         return None, [walk]
@@ -113,8 +110,8 @@ def closed_with_fewest(searches, walk):
     return None, walks
 
 
-def is_closable(world):
-    """Tell whether further rows can pay all that is owed in a world."""
+def paid(world):
+    """Return a world in which further rows pay all that is owed, with values of its nodes, or None twice."""
     worlds = [world]
     while worlds:
         child = worlds.pop()
@@ -122,13 +119,17 @@ def is_closable(world):
         if values is not None:
             debt = child.unpaid(values)
             if debt is None:
-                return True
+                return child, values
             worlds.extend(child.payments(debt))
-    return False
+    return None, None
 
 
 def ended(searches, walk, world, values):
-    """Return the tables of the known rows, if runs come to the right ones, or None and walks that do."""
+    """Return the tables of the known rows, if runs come to the right ones, or None and walks that do.
+
+    Where a run ends is chosen in the world of the walk, without its further rows: if it can end nowhere, that does
+    not depend on what they pay.
+    """
     reference = misled(searches, world, values)
     if reference is None:
         return world.shown(values), []
