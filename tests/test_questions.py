@@ -390,6 +390,36 @@ class LoopsTest(PairCase):
         self.pair(text, "each x in a\nend", 3)
 
 
+class LimitsTest(PairCase):
+    """Questions about as much as they may be about."""
+
+    head = "table a k n\ntable t k b v\ntable u k v w\n"
+
+    def test_six_searches_in_two_loops(self):
+        until = (
+            "each x in t\neach y in t where x before y\nfind p in t where p.k = x.b until x.b < p.k\n"
+            "last q in t where q.k = y.b until y.b < q.k\nfind r in u where r.k = p.v until p.v < r.k\n"
+            "if p before q\nput w p.v q.v r.v\nelse\nput z r.v\nend\nend\nend"
+        )
+        plain = until.replace(" until x.b < p.k", "").replace(" until y.b < q.k", "").replace(" until p.v < r.k", "")
+        self.pair(until, plain, None, "sorted t.k", "sorted u.k", values=(0, 1))
+        self.pair(until, plain, 4, "sorted t.k", values=(0, 1))
+        lines = ("found t.v in u.k", "found t.b in u.v", "found u.w in a.k", "filled t")
+        self.pair(until, plain, None, "sorted t.k", "sorted u.k", *lines, values=(0, 1))
+
+    def test_rows_that_are_all_different(self):
+        text = (
+            "each x in a\nfind p in t where p.k = x.k\nfind q in t where q.k = p.b\nfind r in t where r.k = q.b\n"
+            "find s in t where s.k = r.b\nif some s and not s is r and not r is q and not q is p\n"
+            "if not s is q and not r is p and not s is p\nput w\nend\nend\nend"
+        )
+        self.pair(text, "each x in a\nend", 5, values=(0, 1))
+        self.pair(text, "each x in a\nend", 6, "found t.v in u.k", values=(0, 1))
+        self.pair(text, "each x in a\nend", 9, "found t.v in u.k", "unique t.v", values=(0, 1))
+        lines = ("found t.v in u.k", "found t.b in u.v", "unique t.v", "unique t.b", "sorted t.k")
+        self.pair(text, "each x in a\nend", 9, *lines, values=(0, 1))
+
+
 class OtherTablesTest(unittest.TestCase):
     def test_programs_over_other_tables(self):
         one = Program("table a k\ntable b k\nput w")
